@@ -1,0 +1,1 @@
+"""Halfcuts: clips that are cut by halves and rearranged again and again."""
