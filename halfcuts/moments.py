@@ -2,7 +2,7 @@
 
 from math import gcd
 
-from halfcuts.checks import check_moment, first_signs
+from halfcuts.checks import check_at_least, check_moment, check_places, first_signs, signs_between
 from halfcuts.errors import InvalidNumber
 
 
@@ -34,19 +34,8 @@ def shared_end(head, ring):
 def letters(moment, low, high):
     """Return the word of the places low to high - 1 of a moment's sequence."""
     check_moment(moment)
-    if low < 0:
-        raise InvalidNumber(low)
-    if high < low:
-        raise InvalidNumber(high)
-    return "".join([sign_at(moment, place) for place in range(low, high)])
-
-
-def sign_at(moment, place):
-    """Return the sign at one place of a moment's sequence, however far behind."""
-    head, ring = moment
-    if place < len(head):
-        return head[place]
-    return ring[(place - len(head)) % len(ring)]
+    check_places(low, high)
+    return signs_between(moment, low, high)
 
 
 def value(moment):
@@ -68,8 +57,7 @@ def number_of(word):
 
 def moments_at(top, bottom):
     """Return the ascending list of the one or two moments with the value top / bottom."""
-    if bottom < 1:
-        raise InvalidNumber(bottom)
+    check_at_least(bottom, 1)
     if top < 0 or top > bottom:
         raise InvalidNumber(top)
     if top == bottom:

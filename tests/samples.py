@@ -34,3 +34,13 @@ NO_MOMENTS = (
     + [("0", word) for word in NO_WORDS]
     + [("", ""), ("01", ""), ("2", ""), ("2", "3")]
 )
+
+
+def raised(error, call, *values, **named):
+    """Return the value of the error that a call raises; fail if it is of another class."""
+    try:
+        call(*values, **named)
+    except error as caught:
+        if caught.__class__ is error:
+            return caught.value
+    raise AssertionError((error, call, values, named))

@@ -4,23 +4,13 @@ from itertools import product
 
 from halfcuts.errors import InvalidMoment, InvalidNumber
 from halfcuts.moments import have_common_tail, is_before, letters, moments_at, plain, value
-from tests.samples import NO_MOMENTS, all_moments, start_of
+from tests.samples import NO_MOMENTS, all_moments, raised, start_of
 
 FAR = 10 ** 30
 LONG = ("01" * 30, "001011010001")
 # The longest word with the two rings 01001 and 01001010 that does not tell them apart:
 # sequences with rings of p and q signs may agree in p + q - 2 places and differ then.
 LIKE_FIVE, LIKE_EIGHT = ("", "01001"), ("", "01001010")
-
-
-def raised(error, call, *values):
-    """Return the value of the error that a call raises; fail if it is of another class."""
-    try:
-        call(*values)
-    except error as caught:
-        if caught.__class__ is error:
-            return caught.value
-    raise AssertionError((error, call, values))
 
 
 class ExampleTest(unittest.TestCase):

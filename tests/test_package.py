@@ -1,6 +1,8 @@
 """Names, places and arguments of the interface, and the rules about files that can be counted."""
 
 import ast
+import builtins
+import doctest
 import inspect
 import unittest
 from importlib import import_module
@@ -20,13 +22,41 @@ FUNCTIONS = {
         "moments_at": ["top", "bottom"], "is_before": ["first", "second"],
         "have_common_tail": ["first", "second"],
     },
+    "edits": {
+        "identity": [], "kind_of": ["edit"], "image": ["edit", "word"], "power": ["edit", "exponent"],
+    },
+    "orders": {
+        "order": ["edit"], "permuted_cut": ["edit"], "cycle_lengths": ["edit"], "is_permuted": ["edit", "words"],
+        "is_drawn": ["edit", "piece", "steps", "rest"], "drawn_piece": ["edit"],
+    },
+    "fates": {
+        "fate": ["edit", "moment"], "pull": ["edit", "moment"], "drawing_cycles": ["edit"],
+        "repelling_cycles": ["edit"], "shares": ["edit"], "returning": ["edit", "n"],
+    },
+    "far": {
+        "letters_after": ["edit", "moment", "n", "low", "high"], "visits": ["edit", "moment", "piece", "n"],
+        "first_visit": ["edit", "moment", "piece"], "share": ["edit", "moment", "piece"],
+    },
 }
 CLASSES = {
     "errors": [
         "CutError", "InvalidWord", "InvalidMoment", "InvalidPairs", "InvalidNumber", "InvalidExponent",
         "NoOrder", "NoLoop", "NoMark", "NothingToUndo", "Unreadable",
     ],
+    "edits": ["Edit"],
 }
+# The methods that the interface lists for a class, which stand in the class itself, and its arguments.
+METHODS = {
+    ("edits", "Edit"): (
+        ["pairs"], ["pairs", "sources", "targets", "__len__", "__eq__", "__add__", "__neg__", "__call__"],
+    ),
+}
+# What the rules let the package use of Python's own functions, and of the methods of its values.
+BUILTINS = """len range enumerate zip min max sum abs sorted reversed int str bool list tuple dict set isinstance ord repr
+any all divmod property classmethod super ValueError""".split()
+BUILTIN_METHODS = """append clear copy count endswith extend find get index insert isalnum isalpha isdigit islower
+isspace isupper items join keys ljust lower lstrip partition pop remove replace reverse rfind rjust rpartition rsplit
+rstrip setdefault split splitlines startswith strip update upper values zfill bit_length add __init__""".split()
 
 
 class InterfaceTest(unittest.TestCase):
@@ -46,6 +76,13 @@ class InterfaceTest(unittest.TestCase):
             for name in names:
                 self.assertTrue(inspect.isclass(getattr(module, name)))
                 self.assertEqual(getattr(module, name).__module__, "halfcuts." + file)
+
+    def test_methods_and_the_arguments_of_classes(self):
+        for (file, name), (arguments, methods) in METHODS.items():
+            found = getattr(import_module("halfcuts." + file), name)
+            self.assertEqual(list(inspect.signature(found).parameters), arguments)
+            for method in methods:
+                self.assertIn(method, found.__dict__)
 
 
 class FilesTest(unittest.TestCase):
@@ -78,6 +115,42 @@ class FilesTest(unittest.TestCase):
                     top = node.module.split(".")[0]
                     self.assertIn(top, ("halfcuts", "math", "itertools", "heapq", "collections"), path)
                     self.assertEqual(node.level, 0, path)
+
+    def test_names_of_python_that_are_used(self):
+        trees = [(path, ast.parse(path.read_text(encoding="utf-8"))) for path in self.files()]
+        own = [node.name for _, tree in trees for node in ast.walk(tree) if isinstance(node, ast.FunctionDef)]
+        for path, tree in trees:
+            for node in ast.walk(tree):
+                if isinstance(node, ast.Name) and hasattr(builtins, node.id):
+                    self.assertIn(node.id, BUILTINS, (path, node.lineno))
+                if isinstance(node, ast.Call) and isinstance(node.func, ast.Attribute):
+                    self.assertIn(node.func.attr, BUILTIN_METHODS + own, (path, node.lineno))
+
+    def test_expressions_that_are_not_used(self):
+        barred = (ast.GeneratorExp, ast.Div, ast.AsyncFunctionDef)
+        for path in self.files():
+            for node in ast.walk(ast.parse(path.read_text(encoding="utf-8"))):
+                self.assertNotIsInstance(node, barred, path)
+                if isinstance(node, ast.Constant):
+                    self.assertNotIsInstance(node.value, (float, complex, bytes), path)
+
+    def test_no_two_files_import_from_each_other(self):
+        needs = {}
+        for path in self.files():
+            tree = ast.parse(path.read_text(encoding="utf-8"))
+            froms = [node.module for node in ast.walk(tree) if isinstance(node, ast.ImportFrom)]
+            needs[path.stem] = [name.split(".")[1] for name in froms if name.startswith("halfcuts.")]
+        while needs:
+            free = [name for name, others in needs.items() if not any(other in needs for other in others)]
+            self.assertNotEqual(free, [], needs)
+            for name in free:
+                del needs[name]
+
+    def test_the_examples_of_the_readme(self):
+        text = (FOLDER.parent / "README.md").read_text(encoding="utf-8")
+        found = doctest.DocTestParser().get_doctest(text.replace("```", ""), {}, "README.md", None, 0)
+        self.assertGreater(len(found.examples), 10)
+        self.assertEqual(doctest.DocTestRunner(verbose=False).run(found).failed, 0)
 
 
 if __name__ == "__main__":
