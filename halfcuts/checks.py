@@ -27,6 +27,12 @@ def check_at_least(number, least):
         raise InvalidNumber(number)
 
 
+def check_between(number, least, most):
+    """Raise InvalidNumber for a number that is too small or too large."""
+    if number < least or number > most:
+        raise InvalidNumber(number)
+
+
 def check_places(low, high):
     """Raise InvalidNumber for places that no word of a sequence has."""
     check_at_least(low, 0)

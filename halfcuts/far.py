@@ -1,9 +1,8 @@
 """Where a moment is after however many repetitions, and how often it was in a piece."""
 
-from math import gcd
-
 from halfcuts.checks import check_at_least, check_moment, check_places, check_word, sign_at
 from halfcuts.cycles import Cycles
+from halfcuts.ratios import ratio
 from halfcuts.walks import Walk, course, walk_until_drawn
 
 
@@ -73,6 +72,4 @@ def share(edit, moment, piece):
     check_moment(moment)
     check_word(piece)
     around = course(edit, moment, len(piece))[1]
-    many = around.count(piece)
-    common = gcd(many, len(around))
-    return many // common, len(around) // common
+    return ratio(around.count(piece), len(around))

@@ -1,9 +1,7 @@
 """Moments: endless sequences of 0 and 1 that repeat, each given by a head and a ring."""
 
-from math import gcd
-
-from halfcuts.checks import check_at_least, check_moment, check_places, first_signs, signs_between
-from halfcuts.errors import InvalidNumber
+from halfcuts.checks import check_at_least, check_between, check_moment, check_places, first_signs, signs_between
+from halfcuts.ratios import ratio
 
 
 def plain(moment):
@@ -44,10 +42,7 @@ def value(moment):
     head, ring = moment
     # A ring of n signs that is read as a number r is worth r / (2 ** n - 1) of the place before it.
     whole = (1 << len(ring)) - 1
-    top = number_of(head) * whole + number_of(ring)
-    bottom = whole << len(head)
-    common = gcd(top, bottom)
-    return top // common, bottom // common
+    return ratio(number_of(head) * whole + number_of(ring), whole << len(head))
 
 
 def number_of(word):
@@ -58,8 +53,7 @@ def number_of(word):
 def moments_at(top, bottom):
     """Return the ascending list of the one or two moments with the value top / bottom."""
     check_at_least(bottom, 1)
-    if top < 0 or top > bottom:
-        raise InvalidNumber(top)
+    check_between(top, 0, bottom)
     if top == bottom:
         return [("", "1")]
     head, ring = expansion(top, bottom)

@@ -2,8 +2,8 @@
 
 from halfcuts.checks import check_at_least, check_word
 from halfcuts.cycles import Cycles
-from halfcuts.errors import NoOrder
 from halfcuts.pairs import pair_for, taken
+from halfcuts.permuted import permuted_cycles
 from halfcuts.words import is_cut
 
 
@@ -22,10 +22,7 @@ def permuted_cut(edit):
 
 def cycle_lengths(edit):
     """Return the ascending list, each once, of the lengths of the cycles of pieces of the coarsest permuted cut."""
-    cycles = Cycles(edit)
-    if cycles.drawing:
-        raise NoOrder(None)
-    return sorted({len(cycle) for cycle in cycles.whole})
+    return sorted({len(cycle) for cycle in permuted_cycles(edit)})
 
 
 def is_permuted(edit, words):

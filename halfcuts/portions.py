@@ -5,9 +5,8 @@ in the same way, at most one of them to where it came from. Then what goes elsew
 each further round, every time from a share that is smaller in the same proportion.
 """
 
-from math import gcd
-
 from halfcuts.cycles import REPELLING, WHOLE, start_in
+from halfcuts.ratios import plus
 
 
 def portions(cycles, pairs):
@@ -56,14 +55,6 @@ def end_of(cycles, piece):
         piece = cycles.steps[piece]
         held = cycles.holder(piece)
     return piece
-
-
-def plus(first, second):
-    """Return the sum of two shares, each a tuple (numerator, denominator), in lowest terms."""
-    top = first[0] * second[1] + second[0] * first[1]
-    bottom = first[1] * second[1]
-    common = gcd(top, bottom)
-    return top // common, bottom // common
 
 
 def portion(depth, again):

@@ -4,7 +4,7 @@ The tests compare the package with these functions, on all small edits and on ma
 """
 
 import random
-from itertools import permutations
+from itertools import permutations, product
 
 from tests.samples import all_cuts, start_of
 
@@ -61,6 +61,18 @@ def some_pairs(seed, many, times):
             start = chance.randrange(many)
             other = other[start:] + other[:start]
         found.append(list(zip(cut, other)))
+    return found
+
+
+def some_loops(seed, many, times):
+    """Return the pairs of loops made of so many pairs each, always the same ones for a seed."""
+    chance = random.Random(seed)
+    found = []
+    for _ in range(times):
+        cut = random_cut(chance, many, chance.random())
+        other = cut if chance.random() < 0.3 else random_cut(chance, many, chance.random())
+        start = chance.randrange(many)
+        found.append(list(zip(cut, other[start:] + other[:start])))
     return found
 
 
@@ -177,3 +189,35 @@ def cycles_of_pieces(pairs, cut):
         if word == min(cycle):
             found.append(len(cycle))
     return sorted(found)
+
+
+def periods(pairs, deepest=6):
+    """Return the numbers of repetitions, ascending, after which moments come back, of one in each piece so deep."""
+    words = ["".join(signs) for signs in product("01", repeat=deepest)]
+    return sorted({back_after(pairs, (word, "0")) for word in words})
+
+
+def turns_around(pairs, moment, many):
+    """Return how many of so many steps from a moment on are turns."""
+    start = start_of(moved(pairs, ("", "0")), 300)
+    way = way_of(pairs, moment, many)
+    return sum(start_of(image, 300) < start for image in way[1:])
+
+
+def tails(moment):
+    """Return all that is left of a moment without some of its first places."""
+    head, ring = moment
+    starts = [head[place:] for place in range(len(head))]
+    return {plainly((start, ring)) for start in starts} | {
+        plainly(("", ring[place:] + ring[:place])) for place in range(len(ring))
+    }
+
+
+def can_be_taken(pairs):
+    """Tell, from what an edit can do alone, whether one takes the first moments of pairs to the second ones."""
+    moves = {(plainly(first), plainly(second)) for first, second in pairs}
+    return (
+        all(tails(first) & tails(second) for first, second in moves)
+        and len({first for first, _ in moves}) == len(moves)
+        and len({second for _, second in moves}) == len(moves)
+    )

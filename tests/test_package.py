@@ -37,6 +37,14 @@ FUNCTIONS = {
         "letters_after": ["edit", "moment", "n", "low", "high"], "visits": ["edit", "moment", "piece", "n"],
         "first_visit": ["edit", "moment", "piece"], "share": ["edit", "moment", "piece"],
     },
+    "loops": {
+        "is_loop": ["edit"], "rotation": ["edit"], "turn_loop": ["turns", "n"], "loop_between": ["first", "second"],
+    },
+    "alike": {
+        "are_alike": ["first", "second"], "edit_between": ["first", "second"], "root": ["edit", "k"],
+        "two_swaps": ["edit"],
+    },
+    "moving": {"can_take": ["pairs"], "edit_taking": ["pairs"]},
 }
 CLASSES = {
     "errors": [
