@@ -73,5 +73,5 @@ def places_shared(first, second):
 
 
 def beside(pieces):
-    """Return the fewest pieces that make up a cut together with these ones, each as a list of its own."""
+    """Return the fewest pieces that make up a cut together with these ones, each in a list of its own, to be halved."""
     return [[piece] for piece in cut_with(pieces) if piece not in pieces]

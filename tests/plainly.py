@@ -221,3 +221,8 @@ def can_be_taken(pairs):
         and len({first for first, _ in moves}) == len(moves)
         and len({second for _, second in moves}) == len(moves)
     )
+
+
+def seen_through(pairs, between, moment):
+    """Return where the pairs take a moment, seen through others: back by these, then as they do, then by these."""
+    return moved(between, moved(pairs, moved(turned(between), moment)))

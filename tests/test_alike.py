@@ -8,8 +8,8 @@ from halfcuts.errors import InvalidNumber, NoOrder
 from halfcuts.fates import fate
 from halfcuts.loops import is_loop, turn_loop
 from halfcuts.orders import cycle_lengths, order, permuted_cut
-from tests.plainly import CLOCK, FOUR, LONG_CYCLES, SMALL, cycles_of_pieces, moved, periods, random_cut, some_pairs
-from tests.plainly import turned
+from tests.plainly import CLOCK, FOUR, LONG_CYCLES, SMALL, cycles_of_pieces, moved, periods, random_cut
+from tests.plainly import seen_through, some_pairs
 from tests.samples import all_moments, raised
 
 FAR = 10 ** 30
@@ -55,10 +55,8 @@ class AlikeTest(unittest.TestCase):
         """Check an edit by pairs and, told step by step, by moments."""
         self.assertEqual(Edit(between.pairs), between)
         self.assertEqual(-between + first + between, second)
-        back = turned(between.pairs)
         for moment in MOMENTS[::5]:
-            there = moved(between.pairs, moved(first.pairs, moved(back, moment)))
-            self.assertEqual(there, moved(second.pairs, moment))
+            self.assertEqual(seen_through(first.pairs, between.pairs, moment), moved(second.pairs, moment))
 
 
 class ExampleTest(unittest.TestCase):

@@ -8,7 +8,7 @@ from halfcuts.errors import InvalidNumber, NoLoop, NoOrder
 from halfcuts.fates import drawing_cycles, repelling_cycles
 from halfcuts.loops import is_loop, loop_between, rotation, turn_loop
 from halfcuts.orders import order
-from tests.plainly import CLOCK, FOUR, SMALL, back_after, moved, some_loops, some_pairs, turned, turns_around
+from tests.plainly import CLOCK, FOUR, SMALL, back_after, moved, seen_through, some_loops, some_pairs, turns_around
 from tests.samples import all_moments, raised
 
 FAR = 10 ** 30
@@ -182,10 +182,8 @@ class LoopBetweenTest(unittest.TestCase):
         self.assertNotEqual(kind_of(between), "shuffle")
         self.assertEqual(Edit(between.pairs), between)
         self.assertEqual(-between + first + between, second)
-        back = turned(between.pairs)
         for moment in MOMENTS[::8]:
-            there = moved(between.pairs, moved(first.pairs, moved(back, moment)))
-            self.assertEqual(there, moved(second.pairs, moment))
+            self.assertEqual(seen_through(first.pairs, between.pairs, moment), moved(second.pairs, moment))
 
     def test_every_two_loops_with_an_order(self):
         found = {True: 0, False: 0}

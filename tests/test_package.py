@@ -45,6 +45,9 @@ FUNCTIONS = {
         "two_swaps": ["edit"],
     },
     "moving": {"can_take": ["pairs"], "edit_taking": ["pairs"]},
+    "counting": {"count_edits": ["pairs", "kind"], "all_edits": ["pairs", "kind"]},
+    "texts": {"show_edit": ["edit"], "show_moment": ["moment"]},
+    "readings": {"read_edit": ["text"], "read_moment": ["text"]},
 }
 CLASSES = {
     "errors": [
@@ -52,11 +55,20 @@ CLASSES = {
         "NoOrder", "NoLoop", "NoMark", "NothingToUndo", "Unreadable",
     ],
     "edits": ["Edit"],
+    "clips": ["Clip"],
 }
-# The methods that the interface lists for a class, which stand in the class itself, and its arguments.
+# The arguments of a class, the methods that the interface lists for it, which stand in the class itself, with their
+# arguments where they may be passed by name, and its properties.
 METHODS = {
     ("edits", "Edit"): (
-        ["pairs"], ["pairs", "sources", "targets", "__len__", "__eq__", "__add__", "__neg__", "__call__"],
+        ["pairs"], {"__len__": None, "__eq__": None, "__add__": None, "__neg__": None, "__call__": None},
+        ["pairs", "sources", "targets"],
+    ),
+    ("clips", "Clip"): (
+        [],
+        {"__eq__": None, "names": [], "apply": ["edit"], "mark": ["name", "moment"], "where": ["name"], "undo": [],
+         "of_texts": ["texts"]},
+        ["edit"],
     ),
 }
 # What the rules let the package use of Python's own functions, and of the methods of its values.
@@ -86,11 +98,16 @@ class InterfaceTest(unittest.TestCase):
                 self.assertEqual(getattr(module, name).__module__, "halfcuts." + file)
 
     def test_methods_and_the_arguments_of_classes(self):
-        for (file, name), (arguments, methods) in METHODS.items():
+        for (file, name), (arguments, methods, properties) in METHODS.items():
             found = getattr(import_module("halfcuts." + file), name)
             self.assertEqual(list(inspect.signature(found).parameters), arguments)
-            for method in methods:
+            for method, names in methods.items():
                 self.assertIn(method, found.__dict__)
+                if names is not None:
+                    bound = getattr(found(), method)
+                    self.assertEqual(list(inspect.signature(bound).parameters), names)
+            for attribute in properties:
+                self.assertIsInstance(found.__dict__[attribute], property)
 
 
 class FilesTest(unittest.TestCase):
